@@ -1,0 +1,1 @@
+"""Lists of tricks with the low bits of an integer."""
