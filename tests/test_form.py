@@ -15,6 +15,15 @@ INTERFACE = {
                 "end_places(steps, index, *, width)", "least_ending(steps, index, place)"],
     "tails": ["tail_after(steps, index, place)", "settled_at(steps, index)", "tails_of(steps, index)",
               "written_while(steps, index, place)"],
+    "alike": ["same_function(steps, other)", "parting_number(steps, other)", "parting_below(steps, other)",
+              "count_alike(steps, other, *, width)"],
+    "origins": ["is_value(steps, value)", "count_origins(steps, value, *, width)",
+                "nth_origin(steps, value, index, *, width)", "origin_index(steps, number, *, width)"],
+    "fixed": ["count_fixed(steps, *, width)", "nth_fixed(steps, index, *, width)",
+              "fixed_index(steps, number, *, width)", "walk_fixed(steps, *, width)", "works_once(steps)",
+              "repeated(steps, number, times)"],
+    "search": ["shortest(steps, *, longest=4)", "walk_lists(steps, length)", "count_lists(steps, length)",
+               "count_functions(length)"],
 }
 
 
@@ -27,9 +36,10 @@ class Interface(unittest.TestCase):
                 self.assertEqual(function.__name__ + str(inspect.signature(function)), row)
                 self.assertEqual(function.__module__, "lowtricks." + file)
 
-    def test_tails_of_is_a_generator(self):
-        module = importlib.import_module("lowtricks.tails")
-        self.assertTrue(inspect.isgeneratorfunction(module.tails_of))
+    def test_generators(self):
+        for file, name in [("tails", "tails_of"), ("fixed", "walk_fixed"), ("search", "walk_lists")]:
+            module = importlib.import_module("lowtricks." + file)
+            self.assertTrue(inspect.isgeneratorfunction(getattr(module, name)))
 
 
 class Form(unittest.TestCase):

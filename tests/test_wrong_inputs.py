@@ -4,7 +4,7 @@ import copy
 import itertools
 import unittest
 
-from lowtricks import errors, reading, steps, tails
+from lowtricks import alike, errors, fixed, origins, reading, search, steps, tails
 
 
 def deep(levels):
@@ -27,11 +27,22 @@ GOOD = {
     "place": [0, 3, 10 ** 30],
     "near": [0, 200],
     "width": [0, 200],
+    "other": [("t", -5), ()],
+    "still": [("t", 5, -5)],
+    "value": [7],
+    "count": [0],
+    "below": [0],
+    "unchanged": [0],
+    "times": [0, 300],
+    "length": [0, 3],
+    "longest": [0, 4],
 }
 
+NO_STEPS = [True, None, 0, 5, "", "c", "csft", b"c", [], ["c"], ["c", 5], {}, {"c": 1}, (True,), ("c", False), (None,),
+              ("cs",), ("",), ("C",), (b"c",), ((),), ("c", ("s",)), (["c"],), (1, 2, "x"), deep(20)]
+
 BAD = {
-    "steps": [True, None, 0, 5, "", "c", "csft", b"c", [], ["c"], ["c", 5], {}, {"c": 1}, (True,), ("c", False), (None,),
-              ("cs",), ("",), ("C",), (b"c",), ((),), ("c", ("s",)), (["c"],), (1, 2, "x"), deep(20)],
+    "steps": NO_STEPS,
     "number": NO_INTEGERS,
     "step": [True, False, None, "", "C", "cs", "x", "1", b"c", (), ("c",), (1,), [], ["c"], [1], {}, deep(20)],
     "word": [True, None, 0, 1, "2", "01 ", " ", "0x1", "0\n", "-1", b"01", (), ("0", "1"), [], ["0"], {}, "1" * 201,
@@ -40,6 +51,22 @@ BAD = {
     "place": NO_INTEGERS + [-1, -10 ** 30],
     "near": NO_INTEGERS + [-1, 201, 10 ** 30],
     "width": NO_INTEGERS + [-1, 201, 10 ** 30],
+    "other": NO_STEPS,
+    "still": NO_STEPS,
+    "value": NO_INTEGERS,
+    "count": NO_INTEGERS + [-1, -10 ** 30],
+    "below": NO_INTEGERS,
+    "unchanged": NO_INTEGERS,
+    "times": NO_INTEGERS + [-1, 301, 10 ** 30],
+    "length": NO_INTEGERS + [-1, 4, 10 ** 30],
+    "longest": NO_INTEGERS + [-1, 5, 10 ** 30],
+}
+
+# Values that only raise an error behind those of all parameters.
+LATE = {
+    "count": [2 ** 201, 10 ** 70],
+    "below": [-1, -10 ** 70, 2 ** 200, 10 ** 70],
+    "unchanged": [1, 7, -1, -2, -10 ** 70, 2 ** 200, 10 ** 70],
 }
 
 ERRORS = {
@@ -51,7 +78,18 @@ ERRORS = {
     "place": errors.InvalidPlace,
     "near": errors.InvalidPlace,
     "width": errors.InvalidWidth,
+    "other": errors.InvalidSteps,
+    "still": errors.InvalidSteps,
+    "value": errors.InvalidNumber,
+    "count": errors.InvalidIndex,
+    "below": errors.InvalidNumber,
+    "unchanged": errors.InvalidNumber,
+    "times": errors.InvalidTimes,
+    "length": errors.InvalidLength,
+    "longest": errors.InvalidLength,
 }
+
+LATE_ERRORS = {"count": errors.InvalidIndex, "below": errors.InvalidNumber, "unchanged": errors.NotFixed}
 
 # The parameters in the order in which the interface lists their errors.
 FUNCTIONS = [
@@ -69,20 +107,68 @@ FUNCTIONS = [
     (tails.settled_at, ["steps", "index"]),
     (tails.tails_of, ["steps", "index"]),
     (tails.written_while, ["steps", "index", "near"]),
+    (alike.same_function, ["steps", "other"]),
+    (alike.parting_number, ["steps", "other"]),
+    (alike.parting_below, ["steps", "other"]),
+    (alike.count_alike, ["steps", "other", "width"]),
+    (origins.is_value, ["steps", "value"]),
+    (origins.count_origins, ["steps", "value", "width"]),
+    (origins.nth_origin, ["steps", "value", "count", "width"]),
+    (origins.origin_index, ["steps", "below", "width"]),
+    (fixed.count_fixed, ["steps", "width"]),
+    (fixed.nth_fixed, ["still", "count", "width"]),
+    (fixed.fixed_index, ["still", "unchanged", "width"]),
+    (fixed.walk_fixed, ["still", "width"]),
+    (fixed.works_once, ["steps"]),
+    (fixed.repeated, ["steps", "number", "times"]),
+    (search.shortest, ["steps", "longest"]),
+    (search.walk_lists, ["steps", "length"]),
+    (search.count_lists, ["steps", "length"]),
+    (search.count_functions, ["length"]),
 ]
+
+BY_NAME = ["width", "longest"]
+GENERATORS = [tails.tails_of, fixed.walk_fixed, search.walk_lists]
 
 
 def called(function, kinds, values):
-    by_name = {kind: value for kind, value in zip(kinds, values) if kind == "width"}
-    in_place = [value for kind, value in zip(kinds, values) if kind != "width"]
+    by_name = {kind: value for kind, value in zip(kinds, values) if kind in BY_NAME}
+    in_place = [value for kind, value in zip(kinds, values) if kind not in BY_NAME]
     result = function(*in_place, **by_name)
-    if function is tails.tails_of:
-        return list(result)
+    if function in GENERATORS:
+        return list(itertools.islice(result, 5))
     return result
 
 
-def choices(kind):
-    return [(value, False) for value in GOOD[kind][:1]] + [(value, True) for value in BAD[kind]]
+def choices(kind, most=100):
+    """Good, wrong and late values, each with its error."""
+    good = [(value, None) for value in GOOD[kind][:1]]
+    bad = [(value, ERRORS[kind]) for value in BAD[kind][:most]]
+    return good, bad, [(value, "late") for value in LATE.get(kind, [])]
+
+
+def rows_for(kinds):
+    """All rows of values; where these are too many, all with one or two wrong ones, and fewer with more."""
+    every = [good + bad + late for good, bad, late in [choices(kind) for kind in kinds]]
+    if len(kinds) < 4:
+        return itertools.product(*every)
+    rows = []
+    for some in itertools.combinations(range(len(kinds)), 2):
+        parts = [every[at] if at in some else every[at][:1] for at in range(len(kinds))]
+        rows.extend(itertools.product(*parts))
+    few = [good + bad + late for good, bad, late in [choices(kind, 4) for kind in kinds]]
+    return rows + list(itertools.product(*few))
+
+
+def expected_error(kinds, row):
+    """The error of the first parameter with a wrong value, else that of the first late one."""
+    for _, error in row:
+        if error not in (None, "late"):
+            return error
+    for kind, (_, error) in zip(kinds, row):
+        if error == "late":
+            return LATE_ERRORS[kind]
+    return None
 
 
 class WrongInputs(unittest.TestCase):
@@ -96,11 +182,18 @@ class WrongInputs(unittest.TestCase):
 
     def test_the_first_listed_error(self):
         for function, kinds in FUNCTIONS:
-            for row in itertools.product(*[choices(kind) for kind in kinds]):
-                wrong = [kind for kind, (_, bad) in zip(kinds, row) if bad]
-                if wrong:
-                    values = [value for value, _ in row]
-                    self.check_error(function, kinds, values, ERRORS[wrong[0]])
+            for row in rows_for(kinds):
+                expected = expected_error(kinds, row)
+                if expected is not None:
+                    self.check_error(function, kinds, [value for value, _ in row], expected)
+
+    def test_errors_of_generators_with_the_first_item(self):
+        for function, kinds in FUNCTIONS:
+            if function in GENERATORS:
+                by_name = {kind: "no" for kind in kinds if kind in BY_NAME}
+                walk = function(*["no" for kind in kinds if kind not in BY_NAME], **by_name)
+                with self.assertRaises(errors.InvalidSteps):
+                    next(walk)
 
     def test_no_error_for_good_values(self):
         for function, kinds in FUNCTIONS:
@@ -128,9 +221,11 @@ class WrongInputs(unittest.TestCase):
                     values = [{"steps": (0, "c", 5, "t", 1), "index": index}.get(kind, 1) for kind in kinds]
                     called(function, kinds, values)
 
-    def test_width_by_name_only(self):
-        with self.assertRaises(TypeError):
-            reading.end_places(GOOD_STEPS, 0, 4)
+    def test_by_name_only(self):
+        for function, kinds in FUNCTIONS:
+            if kinds[-1] in BY_NAME:
+                with self.assertRaises(TypeError):
+                    list(function(*[GOOD[kind][0] for kind in kinds]))
 
     def test_predicates_take_any_value(self):
         for value in NO_INTEGERS + BAD["steps"] + BAD["step"]:
