@@ -90,7 +90,10 @@ def great_steps(chance, many):
     """Steps with great integers, with as many masks as integers."""
     row = []
     for at in range(many):
-        row.append(chance.choice("csft") if at % 2 else chance.choice([chance.randint(-BIG, BIG), some_integer(chance)]))
+        if at % 2:
+            row.append(chance.choice("csft"))
+        else:
+            row.append(chance.choice([chance.randint(-BIG, BIG), some_integer(chance)]))
     return tuple(row)
 
 

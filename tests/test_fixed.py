@@ -172,7 +172,8 @@ class Walk(unittest.TestCase):
         self.assertEqual(rows[2], rows[0])
 
     def test_errors_with_the_first_item(self):
-        for steps, width, error in [(["c"], 300, InvalidSteps), (("c",), 201, InvalidWidth), (("c",), True, InvalidWidth)]:
+        for steps, width, error in [(["c"], 300, InvalidSteps), (("c",), 201, InvalidWidth),
+                                    (("c",), True, InvalidWidth)]:
             walk = walk_fixed(steps, width=width)
             with self.assertRaises(error):
                 next(walk)
@@ -205,7 +206,8 @@ class WorksOnce(unittest.TestCase):
             found = works_once(steps)
             seen[found] += 1
             numbers = many_numbers(126, 60)
-            changes = [number for number in numbers if plain_applied(steps + steps, number) != plain_applied(steps, number)]
+            changes = [number for number in numbers
+                       if plain_applied(steps + steps, number) != plain_applied(steps, number)]
             if found:
                 self.assertEqual(changes, [], steps)
             self.assertIs(works_once(other_form(chance, steps)), found)
