@@ -4,7 +4,7 @@ import copy
 import itertools
 import unittest
 
-from lowtricks import alike, errors, fixed, origins, reading, search, steps, tails
+from lowtricks import alike, errors, fixed, origins, reading, search, steps, tails, texts
 
 
 def deep(levels):
@@ -36,6 +36,7 @@ GOOD = {
     "times": [0, 300],
     "length": [0, 3],
     "longest": [0, 4],
+    "text": ["c +5 f s", "none"],
 }
 
 NO_STEPS = [True, None, 0, 5, "", "c", "csft", b"c", [], ["c"], ["c", 5], {}, {"c": 1}, (True,), ("c", False), (None,),
@@ -60,6 +61,8 @@ BAD = {
     "times": NO_INTEGERS + [-1, 301, 10 ** 30],
     "length": NO_INTEGERS + [-1, 4, 10 ** 30],
     "longest": NO_INTEGERS + [-1, 5, 10 ** 30],
+    "text": [True, None, 0, 5, "", " ", "x", "5", "-0", "+05", "c  s", "c ", "c\n", b"c", (), ("c",), [], ["c"], {},
+             {"c": 1}, deep(20)],
 }
 
 # Values that only raise an error behind those of all parameters.
@@ -87,6 +90,7 @@ ERRORS = {
     "times": errors.InvalidTimes,
     "length": errors.InvalidLength,
     "longest": errors.InvalidLength,
+    "text": errors.InvalidText,
 }
 
 LATE_ERRORS = {"count": errors.InvalidIndex, "below": errors.InvalidNumber, "unchanged": errors.NotFixed}
@@ -125,6 +129,8 @@ FUNCTIONS = [
     (search.walk_lists, ["steps", "length"]),
     (search.count_lists, ["steps", "length"]),
     (search.count_functions, ["length"]),
+    (texts.show_steps, ["steps"]),
+    (texts.read_steps, ["text"]),
 ]
 
 BY_NAME = ["width", "longest"]
